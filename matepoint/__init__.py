@@ -1,0 +1,1 @@
+"""Matepoint: givers, takers and bearers who meet by what they wish."""
