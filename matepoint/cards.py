@@ -8,11 +8,14 @@ MOST_MARKS = 6
 MOST_SIZES = 6
 
 
+def is_long_word(text):
+    """Tell of a text whether it is a word, however long."""
+    return len(text) > 0 and text not in WISH_WORDS and all([sign in LETTERS for sign in text])
+
+
 def is_word(thing):
     """Tell of anything whether it is a word."""
-    if not isinstance(thing, str) or not 1 <= len(thing) <= LONGEST_WORD:
-        return False
-    return thing not in WISH_WORDS and all([sign in LETTERS for sign in thing])
+    return isinstance(thing, str) and len(thing) <= LONGEST_WORD and is_long_word(thing)
 
 
 def is_whole(thing):

@@ -24,6 +24,24 @@ BARRED_WORDS = re.compile(
 )
 
 
+METHODS = set((
+    "append clear copy count endswith extend find get index insert isalnum isalpha isdigit islower isspace isupper "
+    "items join keys ljust lower lstrip partition pop remove replace reverse rfind rjust rpartition rsplit rstrip "
+    "setdefault split splitlines startswith strip update upper values zfill bit_length"
+).split())
+
+
+def bound_names(tree):
+    """The names of parameters and variables in functions, with their lines."""
+    for function in ast.walk(tree):
+        if isinstance(function, (ast.FunctionDef, ast.Lambda)):
+            for node in ast.walk(function):
+                if isinstance(node, ast.arg):
+                    yield node.arg, node.lineno
+                if isinstance(node, ast.Name) and isinstance(node.ctx, ast.Store):
+                    yield node.id, node.lineno
+
+
 def nodes():
     """Every node of the package's code, with a name for messages."""
     for path in FILES:
@@ -71,6 +89,41 @@ class LanguageTest(unittest.TestCase):
             if isinstance(node, ast.Name) and hasattr(builtins, node.id):
                 self.assertIn(node.id, ALLOWED_BUILTINS, name)
                 self.assertIsInstance(node.ctx, ast.Load, name)
+
+    def test_names(self):
+        for path in FILES:
+            tree = ast.parse(path.read_text())
+            taken = {alias.name for node in ast.walk(tree) if isinstance(node, ast.ImportFrom) for alias in node.names}
+            taken |= {node.name for node in ast.walk(tree) if isinstance(node, ast.ClassDef)} | set(dir(builtins))
+            for name, line in bound_names(tree):
+                self.assertNotIn(name, taken, f"{path.name}:{line}")
+                self.assertFalse(name.startswith("_"), f"{path.name}:{line}")
+
+    def test_methods_and_attributes(self):
+        trees = [ast.parse(path.read_text()) for path in FILES]
+        classes = [node for tree in trees for node in ast.walk(tree) if isinstance(node, ast.ClassDef)]
+        own = {part.name for node in classes for part in node.body if isinstance(part, ast.FunctionDef)}
+        attributes = [(name, node) for name, node in nodes() if isinstance(node, ast.Attribute)]
+        fields = {node.attr for name, node in attributes if isinstance(node.ctx, ast.Store)}
+        self.assertEqual(own & fields, set())
+        for name, node in attributes:
+            self.assertIn(node.attr, own | fields | METHODS, name)
+
+    def test_is_stands_beside_none_and_truths_alone(self):
+        for name, node in nodes():
+            if isinstance(node, ast.Compare) and isinstance(node.ops[0], (ast.Is, ast.IsNot)):
+                self.assertTrue(isinstance(node.comparators[0], ast.Constant), name)
+                self.assertIn(node.comparators[0].value, (None, True, False), name)
+
+    def test_no_else_behind_a_loop(self):
+        for name, node in nodes():
+            if isinstance(node, (ast.For, ast.While)):
+                self.assertEqual(node.orelse, [], name)
+
+    def test_no_per_cent_in_strings(self):
+        for name, node in nodes():
+            if isinstance(node, ast.Constant) and isinstance(node.value, str):
+                self.assertNotIn("%", node.value, name)
 
 
 if __name__ == "__main__":
