@@ -42,6 +42,19 @@ def bound_names(tree):
                     yield node.id, node.lineno
 
 
+def with_parents():
+    """Every node of the package's code behind a name for messages, each with the node that it stands in."""
+    for path in FILES:
+        for parent in ast.walk(ast.parse(path.read_text())):
+            for node in ast.iter_child_nodes(parent):
+                yield f"{path.name}:{getattr(node, 'lineno', 0)}", node, parent
+
+
+def called(node):
+    """The name of what a call calls, a method's too; None of what is no call."""
+    return getattr(node.func, "id", getattr(node.func, "attr", None)) if isinstance(node, ast.Call) else None
+
+
 def nodes():
     """Every node of the package's code, with a name for messages."""
     for path in FILES:
@@ -119,6 +132,53 @@ class LanguageTest(unittest.TestCase):
         for name, node in nodes():
             if isinstance(node, (ast.For, ast.While)):
                 self.assertEqual(node.orelse, [], name)
+
+    def test_module_level(self):
+        for path in FILES:
+            bound = []
+            for node in ast.parse(path.read_text()).body:
+                plain = (ast.Expr, ast.ImportFrom, ast.FunctionDef, ast.ClassDef, ast.Assign)
+                self.assertIsInstance(node, plain, path.name)
+                bound += [alias.name for alias in node.names] if isinstance(node, ast.ImportFrom) else []
+                bound += [node.name] if isinstance(node, (ast.FunctionDef, ast.ClassDef)) else []
+                bound += [target.id for target in node.targets] if isinstance(node, ast.Assign) else []
+            self.assertEqual(len(set(bound)), len(bound), path.name)
+
+    def test_no_two_files_import_from_each_other(self):
+        seen = {path.stem: {node.module.split(".")[1] for node in ast.parse(path.read_text()).body
+                            if isinstance(node, ast.ImportFrom)} for path in FILES}
+        while seen:
+            free = [name for name, needed in seen.items() if not needed & set(seen)]
+            self.assertNotEqual(free, [], seen)
+            for name in free:
+                del seen[name]
+
+    def test_what_is_iterated_stands_where_it_is_iterated(self):
+        takers = ("list", "tuple", "dict", "sorted", "sum", "any", "all", "enumerate", "zip", "min", "max")
+        for name, node, parent in with_parents():
+            if called(node) in ("zip", "enumerate", "reversed", "range", "items", "keys", "values"):
+                looped = isinstance(parent, (ast.For, ast.comprehension)) and parent.iter is node
+                self.assertTrue(looped or (called(parent) in takers and parent.args[0] is node), name)
+
+    def test_sets_stand_where_they_are_counted_or_sorted(self):
+        for name, node, parent in with_parents():
+            self.assertNotIsInstance(node, ast.Set, name)
+            if called(node) in ("set", "frozenset") or isinstance(node, ast.SetComp):
+                self.assertIn(called(parent), ("len", "sorted"), name)
+
+    def test_errors_are_raised_and_caught_by_name(self):
+        for name, node in nodes():
+            if isinstance(node, ast.Raise):
+                self.assertTrue(isinstance(node.exc, ast.Call) and isinstance(node.exc.func, ast.Name), name)
+            if isinstance(node, ast.ExceptHandler):
+                self.assertIn(node.type.id, ("NoText", "MateError"), name)
+
+    def test_no_texts_within_the_braces_of_texts(self):
+        for name, node in nodes():
+            if isinstance(node, ast.FormattedValue):
+                self.assertIsNone(node.format_spec, name)
+                inner = [one for one in ast.walk(node.value) if isinstance(one, (ast.JoinedStr, ast.Constant))]
+                self.assertEqual([one for one in inner if isinstance(getattr(one, "value", ""), str)], [], name)
 
     def test_no_per_cent_in_strings(self):
         for name, node in nodes():
